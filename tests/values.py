@@ -1,0 +1,110 @@
+"""Values of any kind, changed values, and devices and tests that many tests take."""
+
+import random
+
+from toldboxes.devices import Device
+from toldboxes.records import Tests, asked
+
+LAMP = Device('calls a b\nanswers x y\nstates p q\nrow p a x q\nrow p b y p\nrow q a y p\nrow q b y q')
+THREE = Device(
+    'calls a b\nanswers x y\nstates u v w\nrow u a x v\nrow u b y w\n'
+    'row v a y w\nrow v b y v\nrow w a x v\nrow w b y u'
+)
+FEW = Tests('calls a b\nanswers x y\ntest a x a y\ntest b y a x')
+ENOUGH = asked(LAMP, (('b', 'a'), ('a', 'a', 'a'), ('a', 'b', 'a')))
+
+
+def deep(leaf, kind):
+    """A value nested 59 deep around its leaf."""
+    value = leaf
+    for _ in range(59):
+        value = kind(value)
+    return value
+
+
+def any_values():
+    """Values of all kinds of section 2: none of them is a name, a walk, a text or a number that is asked for."""
+    return [
+        -1, 99, 123456789, -123456789, True, False, None, '', ' ', 'zz', 'A', 'a ', 'states', 'a\n', '0', '\n',
+        'nine99999', [], ['a'], [()], [('a', 'x')], {}, {'a': 'x'}, {0: ()}, {'a': [{}]}, (0,), (True,), (None,),
+        ([],), ({},), ('zz',), (('zz',),), (('a', 'x', 'a'),), (['a', 'x'],), ((('a', 'x'),), 0), ('a', 0), ('a', []),
+        ((['a'], 'x'),), (('a', ['x']),), (('a', {}),), ({'a': 'x'},),
+        LAMP, THREE, FEW, ENOUGH, (LAMP,), (FEW, LAMP), [LAMP], {'a': FEW}, ((LAMP, 'x'),), (('a', FEW),),
+        deep('a', lambda value: (value,)), deep('a', lambda value: [value]), deep((), lambda value: {'a': value}),
+        deep('a', lambda value: ('a', value)),
+    ]
+
+
+def variants(value, stand_ins):
+    """What is right but for one part of it, at any depth."""
+    yield from stand_ins
+    if isinstance(value, tuple):
+        yield list(value)
+        yield value + ('a',)
+        yield value + value
+        for at, part in enumerate(value):
+            yield value[:at] + value[at + 1:]
+            yield value[:at] + (part,) + value[at:]
+            if at > 0:
+                yield value[:at - 1] + (part, value[at - 1]) + value[at + 1:]
+            for changed in variants(part, stand_ins):
+                yield value[:at] + (changed,) + value[at + 1:]
+    elif isinstance(value, bool):
+        yield int(value)
+    elif isinstance(value, int):
+        yield from (value + 1, value - 1, str(value), [value])
+        if value in (0, 1):
+            yield bool(value)
+    elif isinstance(value, str):
+        yield from (value + ' ', value + '\n', value[:-1], value.upper(), [value], (value,), tuple(value))
+        lines = value.split('\n')
+        if len(lines) > 1:
+            for at, line in enumerate(lines):
+                yield '\n'.join(lines[:at] + lines[at + 1:])
+                yield '\n'.join(lines[:at] + [line] + lines[at:])
+                words = line.split(' ')
+                for word in range(len(words)):
+                    for other in ('x', 'y', 'a', 'b', 'p', 'q', 's0', 's1', 's2'):
+                        changed = words[:word] + [other] + words[word + 1:]
+                        yield '\n'.join(lines[:at] + [' '.join(changed)] + lines[at + 1:])
+
+
+STAND_INS = (
+    None, 0, 1, 2, True, False, 'a', 'b', 'x', 'p', 'q', 'zz', 'alike', 'torn', 'cases', (), ('a',), ('b',),
+    ('a', 'a'), ('a', 'b'), ('p', 'q'), ('p',), [], {}, LAMP, FEW, (LAMP,),
+)
+
+
+def some_variants(value, many, seed):
+    """At most so many of the variants of a value."""
+    found = list(variants(value, STAND_INS))
+    return random.Random(seed).sample(found, many) if len(found) > many else found
+
+
+def random_text(rnd, calls, answers, many):
+    """The text of any device with so many states; lines of rows and states in any sequence."""
+    states = rnd.sample(['p', 'q', 'row', 's0', 's1', 's2', 'x1'], many)
+    rows = [f'row {s} {c} {rnd.choice(answers)} {rnd.choice(states)}' for s in states for c in calls]
+    rnd.shuffle(rows)
+    heads = [' '.join(['calls', *calls]), ' '.join(['answers', *answers]), ' '.join(['states', *states])]
+    return '\n'.join(heads + rows)
+
+
+def random_walks(rnd, calls, many, longest):
+    """Any walks of one call or more."""
+    return tuple([tuple(rnd.choice(calls) for _ in range(rnd.randint(1, longest))) for _ in range(many)])
+
+
+def renamed(text, names):
+    """A text whose words, but for the first ones of the lines, are exchanged by the dict of each line's kind."""
+    lines = []
+    for line in text.split('\n'):
+        head, *words = line.split(' ')
+        if head == 'row':
+            kinds = ('states', 'calls', 'answers', 'states')
+        elif head == 'test':
+            kinds = ('calls', 'answers') * len(words)
+        else:
+            kinds = (head,) * len(words)
+        lines.append(' '.join([head] + [names[kind][word] for kind, word in zip(kinds, words)]))
+    return '\n'.join(lines)

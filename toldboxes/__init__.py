@@ -1,0 +1,1 @@
+"""Toldboxes: devices that tests can prove."""

@@ -1,0 +1,80 @@
+"""Names, lines of texts, walks and numbers: what several files read in the same way."""
+
+LETTERS = "abcdefghijklmnopqrstuvwxyz"
+FIGURES = "0123456789"
+MOST_PAIRS = 12
+
+
+def is_name(word):
+    """Whether a string is a name."""
+    if not 1 <= len(word) <= 8 or word[0] not in LETTERS:
+        return False
+    return all([sign in LETTERS or sign in FIGURES for sign in word])
+
+
+def names_in(line, head, fewest, most):
+    """The names behind the word head, so many and unlike ones; () if the line has another form."""
+    words = line.split(" ")
+    names = words[1:]
+    if words[0] != head or not fewest <= len(names) <= most:
+        return ()
+    if len(set(names)) < len(names) or not all([is_name(name) for name in names]):
+        return ()
+    return tuple(names)
+
+
+def read_heads(lines, heads):
+    """The names in the first lines, by (word, fewest, most) for each line, and the number of the bad line or 0."""
+    read = []
+    for at, (head, fewest, most) in enumerate(heads):
+        names = names_in(lines[at], head, fewest, most) if at < len(lines) else ()
+        if not names:
+            # A missing line has the number of lines and one: the same number as a bad line that stood here.
+            return read, at + 1
+        read.append(names)
+    return read, 0
+
+
+def pairs_in(line, head, calls, answers):
+    """The one to twelve pairs (call, answer) behind the word head; () if the line has another form."""
+    words = line.split(" ")
+    row = tuple(zip(words[1::2], words[2::2]))
+    if words[0] != head or len(words) != 1 + 2 * len(row):
+        return ()
+    return row if is_row(row, calls, answers, 1, MOST_PAIRS) else ()
+
+
+def is_among(value, names):
+    """Whether any value is one of these names."""
+    return isinstance(value, str) and value in names
+
+
+def is_whole(value, low, high):
+    """Whether any value is an integer from low to high; bools are none."""
+    return isinstance(value, int) and not isinstance(value, bool) and low <= value <= high
+
+
+def is_walk(value, calls, fewest, most):
+    """Whether any value is a tuple of so many of these calls."""
+    if not isinstance(value, tuple) or not fewest <= len(value) <= most:
+        return False
+    return all([is_among(call, calls) for call in value])
+
+
+def is_pair(value, calls, answers):
+    """Whether any value is a tuple of a call and an answer."""
+    if not isinstance(value, tuple) or len(value) != 2:
+        return False
+    return is_among(value[0], calls) and is_among(value[1], answers)
+
+
+def is_row(value, calls, answers, fewest, most):
+    """Whether any value is a tuple of so many pairs (call, answer)."""
+    if not isinstance(value, tuple) or not fewest <= len(value) <= most:
+        return False
+    return all([is_pair(pair, calls, answers) for pair in value])
+
+
+def in_sequence(walks, calls):
+    """The list of these walks as walks stand in sequence."""
+    return sorted(walks, key=lambda walk: (len(walk), [calls.index(call) for call in walk]))
