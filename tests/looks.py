@@ -376,10 +376,14 @@ def any_tests(rnd, calls, answers, many, longest):
 
 
 def someone_passes(device, said, m):
-    """Whether a device of at most m states agrees with the tests and is not alike with device.
+    """Whether a device of at most m states agrees with the tests and is not alike with device."""
+    return any(is_unlike(device, rows) for rows in rows_agreeing(said, m))
 
-    Goes through all devices, row by row, as the tests come to them; states are called by the numbers by which they
-    are come to first.
+
+def rows_agreeing(said, m):
+    """For all devices of at most m states that agree: their rows (state, call) by which the tests go.
+
+    Goes through all of them row by row; states are called by the numbers by which they are come to first.
     """
     steps = [(call, answer, at == 0) for walk, answers in said.rows for at, (call, answer) in enumerate(zip(walk, answers))]
     waiting = [({}, 0, 0, 1)]
@@ -394,12 +398,10 @@ def someone_passes(device, said, m):
             state = told[1]
             number += 1
         if number == len(steps):
-            if is_unlike(device, rows):
-                return True
+            yield rows
         elif told is None:
             for goal in range(min(m, many + 1)):
                 waiting.append(({**rows, (state, call): (answer, goal)}, number + 1, goal, max(many, goal + 1)))
-    return False
 
 
 def is_unlike(device, rows):
@@ -423,3 +425,60 @@ def least_fooling(device, said):
         if someone_passes(device, said, number):
             return number
     return None
+
+
+def text_of(device):
+    """The text of a plain device."""
+    heads = [' '.join([head, *names]) for head, names in
+             (('calls', device.calls), ('answers', device.answers), ('states', device.states))]
+    return '\n'.join(heads + [f'row {s} {c} {a} {g}' for (s, c), (a, g) in device.rows.items()])
+
+
+def versions_of(device, lot):
+    """All versions of a plain device by a lot, which may be (), its own one among them."""
+    found = []
+    for told in itertools.product(itertools.product(device.answers, device.states), repeat=len(lot)):
+        version = Plain(text_of(device))
+        version.rows.update(zip(lot, told))
+        found.append(version)
+    return found
+
+
+def unlike_ones(devices):
+    """Some of these plain devices, so that each one is alike with just one of them."""
+    found = []
+    for device in devices:
+        if all(first_parting(device, other) is not None for other in found):
+            found.append(device)
+    return found
+
+
+def right_version(device, lot, text):
+    """The device, if any value is the text of a version by the lot; None if not."""
+    if bad_device(text) is not None:
+        return None
+    version = Plain(text)
+    if (version.calls, version.answers, version.states) != (device.calls, device.answers, device.states):
+        return None
+    return version if all(version.rows[row] == device.rows[row] for row in device.rows if row not in lot) else None
+
+
+def choices_in_sequence(menu, reset):
+    """All choices, as they stand in sequence, each with its price."""
+    found = []
+    for many in range(len(menu) + 1):
+        for choice in itertools.combinations(range(len(menu)), many):
+            found.append((sum(len(menu[number]) + reset for number in choice), many, choice))
+    return [(choice, price) for price, _, choice in sorted(found)]
+
+
+def look_at_homing(device, states):
+    """The first walk behind which what was heard tells the state, the device being in one of these at first."""
+    for walk in walks_to(device.calls, 6):
+        ends = {}
+        for state in states:
+            heard, goal = device.go(walk, state)
+            ends.setdefault(heard, set()).add(goal)
+        if all(len(goals) == 1 for goals in ends.values()):
+            return walk
+    raise AssertionError('no walk brings it home')

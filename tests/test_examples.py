@@ -46,6 +46,72 @@ Section 9:
 >>> paper = ('cases', ('a',), (('torn', (), ('a',), ('a',)), paper))
 >>> [shows_proves(lamp, enough, 2, ('proved', paper)), shows_proves(lamp, few, 2, ('proved', paper)), shows_proves(lamp, few, 2, ('passes', lamp.turned('q', 'a', 'y', 'q').text, ('a', 'a', 'a')))]
 [True, False, True]
+
+Section 10:
+
+>>> from toldboxes.judging import answers_sure, first_open, judged, rows_sure, rows_told
+>>> [judged(few, 2, ('a', 'b'))[0], judged(few, 2, ('b', 'a', 'a'))[:2], judged(few, 1, ())[0], first_open(lamp, few, 2), first_open(lamp, enough, 2)]
+['open', ('always', ('y', 'x', 'y')), 'none', ('a', 'b'), None]
+>>> [rows_told(lamp, few), answers_sure(lamp, few, 2), rows_sure(lamp, few, 2), len(rows_sure(lamp, enough, 2))]
+[(('p', 'a'), ('p', 'b'), ('q', 'a')), (('p', 'a'), ('p', 'b'), ('q', 'a')), (), 4]
+
+Section 11:
+
+>>> from toldboxes.suites import parters, price, suite, ways
+>>> [ways(lamp), parters(lamp), suite(lamp, 0) == asked(lamp, (('b', 'a'), ('a', 'a', 'a'), ('a', 'b', 'a'))), len(suite(lamp, 1)), price(enough, 10)]
+[((), ('a',)), (('a',),), True, 6, 38]
+>>> [ways(three), proves(lamp, suite(lamp, 0), 2)[0], proves(lamp, suite(lamp, 0), 3)[0], proves(lamp, suite(lamp, 1), 3)[0]]
+[((), ('a',)), 'proved', 'passes', 'proved']
+
+Section 12:
+
+>>> from toldboxes.choosing import cheapest, next_walk, shows_cheapest
+>>> menu = (('b', 'a'), ('a', 'a', 'a'), ('a', 'b', 'a'), ('b', 'a', 'a', 'a', 'b', 'a'))
+>>> [cheapest(lamp, 2, menu, 2)[:3], len(cheapest(lamp, 2, menu, 2)[3]), cheapest(lamp, 2, menu[:2], 2)[0], next_walk(few, 2, (('a', 'b'), ('b', 'b')))]
+[('choice', 8, (3,)), 4, 'passes', (1, 2)]
+
+Section 13:
+
+>>> from toldboxes.changes import changed, cheapest_change, shows_changed, useful, versions
+>>> lot = (('q', 'a'),)
+>>> [versions(lamp, lot), changed(lamp, lot, few)[0], changed(lamp, lot, asked(lamp, (('a', 'a', 'a'),))), useful(lamp, lot, few), cheapest_change(lamp, lot, menu, 2)]
+[3, 'passes', ('proved',), (0,), ('choice', 5, (1,))]
+
+Section 14:
+
+>>> from toldboxes.blaming import blamed, halving, mended, shows_mended
+>>> seen = Tests('calls a b\\nanswers x y\\ntest a x a y a y')
+>>> [blamed(lamp, few, 1), blamed(lamp, seen, 1), blamed(lamp, seen, 2) == blamed(lamp, seen, 1), mended(lamp, seen, (('q', 'a'),))[0], mended(lamp, seen, (('q', 'b'),))]
+[((),), ((('q', 'a'),),), True, 'device', ('none',)]
+>>> [shows_mended(lamp, seen, (('q', 'a'),), ('device', lamp.turned('q', 'a', 'y', 'q').text)), halving(lamp, seen, 1, (('b',), ('a', 'a', 'b')))]
+[True, (0, 1)]
+
+Section 15:
+
+>>> from toldboxes.homing import homing, resetting, shows_resetting
+>>> ring = Device('calls a b\\nanswers x y\\nstates r s t\\nrow r a x s\\nrow s a x t\\nrow t a y r\\nrow r b x r\\nrow s b x r\\nrow t b x t')
+>>> [homing(lamp), resetting(lamp), homing(ring), resetting(ring), shows_resetting(lamp, ('never', (('p', 'q'),)))]
+[('a',), ('never', (('p', 'q'),)), ('a', 'a'), ('walk', ('b', 'a', 'b')), True]
+
+Section 16:
+
+>>> from toldboxes.telling import shows_telling, shows_which, shows_within, telling, which, within
+>>> other = lamp.turned('p', 'a', 'y', 'q').turned('p', 'b', 'x', 'p')
+>>> [telling(lamp), which((lamp, lamp.begun('q'))), within(lamp, other), within(lamp, lamp.begun('q'))[0], shows_within(lamp, lamp.begun('q'), ('ring', (), ('b',)))]
+[('tree', ('a', (('x', 'p'), ('y', 'q')))), ('tree', ('a', (('x', 0), ('y', 1)))), ('within', 1), 'ring', True]
+>>> telling(ring)
+('tree', ('a', (('x', ('a', (('x', 'r'), ('y', 's')))), ('y', 't'))))
+>>> [which((lamp, lamp))[0], shows_which((lamp, lamp), ('never', (((0, 'p'), (1, 'p')), ((0, 'q'), (1, 'q')))))]
+['never', True]
+
+Section 17:
+
+>>> from toldboxes.logs import expected, first, knowing, left, now, shows_expected, torn
+>>> page = (('a', 'x'), ('b', 'x'))
+>>> [now(ring, page), first(ring, page), torn(ring, page + (('a', 'y'), ('a', 'y'))), torn(ring, page), expected(ring, page, ('b',)), expected(ring, page, ('a',))[0]]
+[('r', 't'), ('r', 's'), 3, None, ('always', ('x',)), 'open']
+>>> [knowing(ring, page), knowing(ring, ()), knowing(ring, (('a', 'y'),)), left((lamp, other), (('b', 'y'),)), expected(lamp, (('a', 'x'), ('a', 'x')), ())]
+[('a',), ('a', 'a'), (), (0, 1), ('torn', 1)]
 """
 
 import doctest

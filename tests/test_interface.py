@@ -11,6 +11,20 @@ FUNCTIONS = {
     'sortings': {'sortings': 'tests m', 'nth_sorting': 'tests m number', 'fits': 'tests m', 'shows_fits': 'tests m value'},
     'proving': {'proves': 'device tests m', 'shows_proves': 'device tests m value', 'fooled': 'device tests',
                 'shows_fooled': 'device tests value', 'needless': 'device tests m'},
+    'judging': {'judged': 'tests m walk', 'shows_judged': 'tests m walk value', 'first_open': 'device tests m',
+                'rows_told': 'device tests', 'answers_sure': 'device tests m', 'rows_sure': 'device tests m'},
+    'suites': {'ways': 'device', 'parters': 'device', 'suite': 'device more', 'price': 'tests reset'},
+    'choosing': {'cheapest': 'device m menu reset', 'shows_cheapest': 'device m menu reset value',
+                 'next_walk': 'tests m menu'},
+    'changes': {'versions': 'device lot', 'changed': 'device lot tests', 'shows_changed': 'device lot tests value',
+                'useful': 'device lot tests', 'cheapest_change': 'device lot menu reset'},
+    'blaming': {'blamed': 'device tests many', 'mended': 'device tests lot', 'shows_mended': 'device tests lot value',
+                'halving': 'device tests many menu'},
+    'homing': {'homing': 'device', 'resetting': 'device', 'shows_resetting': 'device value'},
+    'telling': {'telling': 'device', 'shows_telling': 'device value', 'which': 'devices', 'shows_which': 'devices value',
+                'within': 'one other', 'shows_within': 'one other value'},
+    'logs': {'now': 'device log', 'first': 'device log', 'torn': 'device log', 'expected': 'device log walk',
+             'shows_expected': 'device log walk value', 'knowing': 'device log', 'left': 'devices log'},
 }
 METHODS = {
     ('devices', 'Device'): {

@@ -38,7 +38,7 @@ def names_bound(tree):
 
 class TestFiles(unittest.TestCase):
     def test_there_are_files(self):
-        self.assertGreaterEqual(len(FILES), 9)
+        self.assertGreaterEqual(len(FILES), 19)
         self.assertEqual([path.name for path in PACKAGE.iterdir() if path.suffix != '.py' and path.name != '__pycache__'], [])
 
     def test_sizes_and_signs(self):

@@ -14,9 +14,8 @@ from toldboxes.forms import least
 from toldboxes.proving import fooled, needless, proves, shows_fooled, shows_proves
 from toldboxes.records import Tests, asked
 from toldboxes.sortings import sortings
-from values import ENOUGH, FEW, LAMP, THREE, any_values, random_text, random_walks, renamed, some_variants
+from values import ENOUGH, FEW, LAMP, STEADY, THREE, any_values, random_text, random_walks, renamed, some_variants
 
-STEADY = Device('calls a b\nanswers x y\nstates s\nrow s a x s\nrow s b x s')
 FOUR = Device(
     'calls a b c\nanswers x y\nstates p q r s\nrow p a x q\nrow q a x r\nrow r a x s\nrow s a y p\n'
     'row p b x p\nrow q b x p\nrow r b x p\nrow s b x p\nrow p c x p\nrow q c x q\nrow r c x r\nrow s c x s'

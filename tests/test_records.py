@@ -12,10 +12,9 @@ from toldboxes.errors import (
     BadTest, BadTests, BadWalks, BoxError, Full, Many, NoNode, NoTest, OtherCalls, Quarrel,
 )
 from toldboxes.records import Tests, apart, asked, wrong
-from values import ENOUGH, FEW, LAMP, THREE, any_values, random_text, random_walks
+from values import ENOUGH, FEW, LAMP, STEADY, THREE, any_values, random_text, random_walks
 
 HEADS = 'calls a b\nanswers x y'
-STEADY = Device('calls a b\nanswers x y\nstates s\nrow s a x s\nrow s b x s')
 
 
 def lines_of(*rows):

@@ -11,7 +11,7 @@ from toldboxes.devices import Device
 from toldboxes.errors import BadNumber, BoxError, Long
 from toldboxes.records import Tests, asked
 from toldboxes.sortings import fits, nth_sorting, shows_fits, sortings
-from values import ENOUGH, FEW, LAMP, any_values, random_text, random_walks, renamed, some_variants
+from values import ENOUGH, FEW, LAMP, STEADY, any_values, random_text, random_walks, renamed, some_variants
 
 NONE = Tests('calls a b\nanswers x y')
 ONE_CALL = Tests('calls a\nanswers x y\ntest a x a y')
@@ -24,7 +24,6 @@ ONE_MORE = (
     (Tests('calls a b\nanswers x y\ntest b x a x b x b x\ntest a y b x a x\ntest a y a x'), 4),
     (Tests('calls a b c\nanswers x y\ntest c x c x a y\ntest b x a x b x\ntest a y c x b x'), 3),
 )
-STEADY = Device('calls a b\nanswers x y\nstates s\nrow s a x s\nrow s b x s')
 WEAK = asked(STEADY, tuple(itertools.product('ab', repeat=3)))
 
 

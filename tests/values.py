@@ -3,6 +3,7 @@
 import random
 
 from toldboxes.devices import Device
+from toldboxes.forms import least
 from toldboxes.records import Tests, asked
 
 LAMP = Device('calls a b\nanswers x y\nstates p q\nrow p a x q\nrow p b y p\nrow q a y p\nrow q b y q')
@@ -10,8 +11,21 @@ THREE = Device(
     'calls a b\nanswers x y\nstates u v w\nrow u a x v\nrow u b y w\n'
     'row v a y w\nrow v b y v\nrow w a x v\nrow w b y u'
 )
+RING = Device('calls a b\nanswers x y\nstates r s t\nrow r a x s\nrow s a x t\nrow t a y r\n'
+              'row r b x r\nrow s b x r\nrow t b x t')
+STEADY = Device('calls a b\nanswers x y\nstates s\nrow s a x s\nrow s b x s')
+# Each call exchanges states, and none brings two together.
+TURNING = Device('calls a b\nanswers x y\nstates p q r s\nrow p a x q\nrow q a y r\nrow r a x s\nrow s a x p\n'
+                 'row p b x q\nrow q b x p\nrow r b y r\nrow s b y s')
+FAR = Device('calls a\nanswers x y\nstates p q\nrow p a x p\nrow q a y q')
 FEW = Tests('calls a b\nanswers x y\ntest a x a y\ntest b y a x')
 ENOUGH = asked(LAMP, (('b', 'a'), ('a', 'a', 'a'), ('a', 'b', 'a')))
+MENU = (('b', 'a'), ('a', 'a', 'a'), ('a', 'b', 'a'), ('b', 'a', 'a', 'a', 'b', 'a'))
+# Other calls and answers than the lamp has, or in another sequence.
+OTHER_HEADS = (
+    'calls b a\nanswers x y', 'calls a b\nanswers y x', 'calls a\nanswers x y', 'calls a b c\nanswers x y',
+    'calls a b\nanswers x y z', 'calls a z\nanswers x y',
+)
 
 
 def deep(leaf, kind):
@@ -32,6 +46,27 @@ def any_values():
         LAMP, THREE, FEW, ENOUGH, (LAMP,), (FEW, LAMP), [LAMP], {'a': FEW}, ((LAMP, 'x'),), (('a', FEW),),
         deep('a', lambda value: (value,)), deep('a', lambda value: [value]), deep((), lambda value: {'a': value}),
         deep('a', lambda value: ('a', value)),
+    ]
+
+
+def bad_menus():
+    """What is no menu of a device with the calls a and b."""
+    walks = (('a',), ('b',), ('a', 'a'), ('a', 'b'), ('b', 'a'), ('b', 'b'), ('a', 'a', 'a'))
+    return any_values() + [
+        0, 1, 'a', (), ('a',), ('a', 'b'), [('a',)], (['a'],), walks, (('a',), ()), ((),), (('a',), ('a',)), (('a',) * 13,),
+        (('a',), ('c',)), (('a',), ('b', 0)), (('a',), ('b', ('a',))), (('a',), None), walks[:3] + walks[2:3],
+        ((('a',),),), ('ab',), (('ab',),),
+    ]
+
+
+def bad_lots():
+    """What is no lot of the lamp."""
+    row = ('q', 'a')
+    rows = (row, ('q', 'b'), ('p', 'a'), ('p', 'b'))
+    return any_values() + [
+        (), 0, 1, 'q', row, [row], ([*row],), (row, row), rows, (row, ('q', 'b'), row), (row, ()), (('a', 'q'),),
+        (('q',),), (('q', 'a', 'x'),), (('z', 'a'),), (('q', 'c'),), (('q', 0),), ((0, 'a'),), (row, None), ((row,),),
+        (('q', 'a '),), (('q', ('a',)),), ((('q',), 'a'),), ('qa',), (row, ('q', ['a'])),
     ]
 
 
@@ -88,6 +123,32 @@ def random_text(rnd, calls, answers, many):
     rnd.shuffle(rows)
     heads = [' '.join(['calls', *calls]), ' '.join(['answers', *answers]), ' '.join(['states', *states])]
     return '\n'.join(heads + rows)
+
+
+def least_devices(seed, many, most=4):
+    """Devices in least form, with any names, states and lines in any sequence."""
+    rnd = random.Random(seed)
+    while many > 0:
+        calls = rnd.sample(['a', 'b', 'c'], rnd.randint(1, 3))
+        answers = rnd.sample(['x', 'y', 'z'], rnd.choice((2, 2, 3)))
+        if many % 3:
+            states = rnd.sample(['p', 'q', 'r', 's'], rnd.randint(1, most))
+            if many % 3 == 1:
+                # Calls that only exchange states make it likely that these never come together.
+                goals = {call: rnd.sample(states, len(states)) for call in calls}
+                rows = [f'row {s} {c} {rnd.choice(answers)} {goals[c][at]}' for c in calls for at, s in enumerate(states)]
+            else:
+                # Few goals and answers make it likely that nothing tells which state it was.
+                goals = {call: rnd.sample(states * 2, 2) for call in calls}
+                rows = [f'row {s} {c} {rnd.choice(answers[:1] * 3 + answers)} {rnd.choice(goals[c])}'
+                        for c in calls for s in states]
+            heads = [' '.join([head, *names]) for head, names in (('calls', calls), ('answers', answers), ('states', states))]
+            device = Device('\n'.join(heads + rows))
+        else:
+            device = Device(random_text(rnd, calls, answers, rnd.randint(1, most)))
+        if len(device) == len(least(device)):
+            many -= 1
+            yield device
 
 
 def random_walks(rnd, calls, many, longest):

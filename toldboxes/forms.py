@@ -5,15 +5,22 @@ from toldboxes.devices import Device
 
 def come(device):
     """The states in which the device is behind some walk, by the first walks to them."""
+    return tuple(list(first_walks(device)))
+
+
+def first_walks(device):
+    """A dict with the first walk to each state that is come to, in the sequence of these walks."""
+    walks = {device.states[0]: ()}
     found = [device.states[0]]
     at = 0
     while at < len(found):
         for call in device.calls:
             goal = device.row(found[at], call)[1]
-            if goal not in found:
+            if goal not in walks:
+                walks[goal] = walks[found[at]] + (call,)
                 found.append(goal)
         at += 1
-    return tuple(found)
+    return walks
 
 
 def kinds(device):

@@ -33,9 +33,14 @@ def shows_alike(one, other, value):
 
 def met(one, other):
     """What meet tells of the first states of two devices."""
+    refuse_other(one, other)
+    return meet(one, one.states[0], other, other.states[0])
+
+
+def refuse_other(one, other):
+    """Raises OtherCalls unless any value is a device with the same calls and answers in the same sequence."""
     if not isinstance(other, Device) or not same_words(one, other):
         raise OtherCalls(other)
-    return meet(one, one.states[0], other, other.states[0])
 
 
 def meet(one, state, other, begin):

@@ -33,7 +33,7 @@ def fooled(device, tests):
     found = fools(device, tests)
     if found is not None:
         return "fooled", *found
-    return "none", proof(device, tests, most_classes(tests))
+    return "none", proof(device, tests, most_classes(tests.calls))
 
 
 def shows_fooled(device, tests, value):
@@ -42,7 +42,7 @@ def shows_fooled(device, tests, value):
     if not isinstance(value, tuple) or len(value) < 2:
         return False
     if value[0] == "none":
-        return len(value) == 2 and is_proof(device, tests, most_classes(tests), value[1])
+        return len(value) == 2 and is_proof(device, tests, most_classes(tests.calls), value[1])
     if found is None or value[0] != "fooled" or not is_whole(value[1], found[0], found[0]):
         return False
     # No device of fewer states passes, so one that does with at most so many has just so many.
@@ -66,9 +66,9 @@ def refuse_tests(device, tests):
         raise Against(against[0])
 
 
-def refuse_few(device, tests, m):
+def refuse_few(device, m):
     """Raises what is due if m is no number of classes, or less than the states of the least form."""
-    refuse_number(tests, m)
+    refuse_number(device.calls, m)
     many = len(least(device))
     if m < many:
         raise Few(many)
@@ -77,7 +77,7 @@ def refuse_few(device, tests, m):
 def passes(device, tests, m):
     """What proves raises; and the text and the walk of a device that passes, None if the tests prove it."""
     refuse_tests(device, tests)
-    refuse_few(device, tests, m)
+    refuse_few(device, m)
     found = passing(device, tests, m)
     if found is None:
         all_sortings(tests, m)
@@ -87,11 +87,11 @@ def passes(device, tests, m):
 def fools(device, tests):
     """What fooled raises; and the number, the text and the walk of a device that passes, None if there is none."""
     refuse_tests(device, tests)
-    for number in range(1, most_classes(tests) + 1):
+    for number in range(1, most_classes(tests.calls) + 1):
         found = passing(device, tests, number)
         if found is not None:
             return number, *found
-    all_sortings(tests, most_classes(tests))
+    all_sortings(tests, most_classes(tests.calls))
     return None
 
 

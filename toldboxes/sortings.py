@@ -11,13 +11,13 @@ MOST_SORTINGS = 600
 
 def sortings(tests, m):
     """How many sortings the tests have by m."""
-    refuse_number(tests, m)
+    refuse_number(tests.calls, m)
     return len(all_sortings(tests, m))
 
 
 def nth_sorting(tests, m, number):
     """The sorting that has this number, as they are sorted."""
-    refuse_number(tests, m)
+    refuse_number(tests.calls, m)
     found = all_sortings(tests, m)
     if not is_whole(number, 0, len(found) - 1):
         raise BadNumber(number)
@@ -26,18 +26,17 @@ def nth_sorting(tests, m, number):
 
 def fits(tests, m):
     """A device of at most m states that agrees with the tests, or cases by which there is none."""
-    refuse_number(tests, m)
+    refuse_number(tests.calls, m)
     tree = Tree(tests)
     classes = Sorter(tree, m).advance()
     if classes is None:
         return "none", cases_of(tree, m, None)
-    spare = [[tests.answers[0]] * len(tests.calls) for _ in range(max(classes) + 1)]
-    return "device", text_by(tree, classes, spare)
+    return "device", text_with(tree, classes, tests.answers[0])
 
 
 def shows_fits(tests, m, value):
     """Whether any value is such a result of fits."""
-    refuse_number(tests, m)
+    refuse_number(tests.calls, m)
     if not isinstance(value, tuple) or len(value) != 2:
         return False
     if value[0] == "device":
@@ -45,14 +44,14 @@ def shows_fits(tests, m, value):
     return value[0] == "none" and are_cases(Tree(tests), m, value[1], None)
 
 
-def most_classes(tests):
+def most_classes(calls):
     """How many classes may be asked for at the most."""
-    return 3 if len(tests.calls) == 3 else 4
+    return 3 if len(calls) == 3 else 4
 
 
-def refuse_number(tests, m):
+def refuse_number(calls, m):
     """Raises BadNumber for what is not a number of classes."""
-    if not is_whole(m, 1, most_classes(tests)):
+    if not is_whole(m, 1, most_classes(calls)):
         raise BadNumber(m)
 
 
@@ -73,6 +72,11 @@ def first_sortings(tests, m):
         found.append(classes)
         classes = sorter.advance()
     return found
+
+
+def text_with(tree, classes, answer):
+    """The text of a device that comes of a sorting; rows that no node tells have this answer."""
+    return text_by(tree, classes, [[answer] * tree.width for _ in range(max(classes) + 1)])
 
 
 def text_by(tree, classes, spare):

@@ -78,3 +78,12 @@ def is_row(value, calls, answers, fewest, most):
 def in_sequence(walks, calls):
     """The list of these walks as walks stand in sequence."""
     return sorted(walks, key=lambda walk: (len(walk), [calls.index(call) for call in walk]))
+
+
+def is_same(value, told):
+    """Whether any value is what is told, which is made of integers, strings, None and tuples; True is not 1."""
+    if isinstance(told, tuple):
+        if not isinstance(value, tuple) or len(value) != len(told):
+            return False
+        return all([is_same(part, known) for part, known in zip(value, told)])
+    return not isinstance(value, bool) and value == told
