@@ -179,6 +179,14 @@ class TestShowsResetting(unittest.TestCase):
                         counted[expected] += 1
         self.assertGreater(min(counted.values()), 30)
 
+    def test_pairs_of_one_state(self):
+        for device in (LAMP, TURNING, RING):
+            pairs = tuple((state, state) for state in sorted(device.states))
+            self.assertIs(shows_resetting(device, ('never', pairs)), False)
+            told = resetting(device)
+            if told[0] == 'never':
+                self.assertIs(shows_resetting(device, ('never', tuple(sorted(told[1] + pairs)))), False)
+
     def test_other_walks(self):
         self.assertEqual(resetting(RING), ('walk', ('b', 'a', 'b')))
         for walk in (('b', 'a', 'b', 'b'), ('b', 'b', 'a', 'b'), ('b', 'a'), ['b', 'a', 'b'], 'bab', None, ()):

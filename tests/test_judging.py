@@ -71,6 +71,15 @@ def heard_by_all(said, m, walk):
     return heard
 
 
+def ended(rnd, paper):
+    """Cases in which some parts, at any places, are ends."""
+    if rnd.random() < 0.25:
+        return ('heard',)
+    if paper[0] != 'cases':
+        return paper
+    return paper[:2] + (tuple(ended(rnd, part) for part in paper[2]),)
+
+
 def numbers_for(tests):
     return (1, 2, 3) if len(tests.calls) == 3 else (1, 2, 3, 4)
 
@@ -246,6 +255,26 @@ class TestShowsJudged(unittest.TestCase):
         self.assertEqual(words, {'always', 'none'})
         self.assertGreater(counted[True], 50)
         self.assertGreater(counted[False], 500)
+
+    def test_ends_at_any_places(self):
+        rnd = random.Random(13)
+        counted = {True: 0, False: 0}
+        for _, tests, *walks in [(0, FEW, ('b', 'a', 'a'), ('b', 'a')), *some_cases(14, 120)]:
+            said = Said(tests.text)
+            for m in numbers_for(tests)[:3]:
+                for walk in walks:
+                    heard = heard_by_all(said, m, walk)
+                    if len(heard) != 1 or len(said.nodes) > 20 or len(walk) < 2:
+                        continue
+                    paper = any_cases(rnd, said, m, lambda place: ('heard',))
+                    if len(repr(paper)) > 4000:
+                        continue
+                    for _ in range(6):
+                        value = ('always', list(heard)[0], ended(rnd, paper))
+                        expected = right_judged(said, m, walk, heard, value)
+                        self.assertIs(shows_judged(tests, m, walk, value), expected, (tests.text, m, walk, value))
+                        counted[expected] += 1
+        self.assertGreater(min(counted.values()), 100, counted)
 
     def test_ends(self):
         self.assertEqual(judged(FEW, 2, ('b', 'a', 'a'))[:2], ('always', ('y', 'x', 'y')))

@@ -325,6 +325,23 @@ class TestShowsTelling(unittest.TestCase):
         self.assertGreater(counted[True], 50)
         self.assertGreater(counted[False], 5000)
 
+    def test_trees_with_calls_that_bring_states_together(self):
+        rnd = random.Random(30)
+        counted = {True: 0, False: 0}
+        for device in (LOST, *least_devices(31, 400)):
+            plain = Plain(device.text)
+            for call in device.calls:
+                parts = led([plain], held_by(plain), call)
+                if not any(is_torn(part) for _, part in parts):
+                    continue
+                told = telling(device)
+                counted[told[0] == 'tree'] += 1
+                leaves = tuple((answer, rnd.choice(part)[0]) for answer, part in parts)
+                trees = tuple((answer, told[1]) for answer, part in parts)
+                for tree in ((call, leaves), (call, trees), (call, tuple((answer, (call, leaves)) for answer, _ in parts))):
+                    self.assertIs(shows_telling(device, ('tree', tree)), False)
+        self.assertGreater(min(counted.values()), 10)
+
     def test_lots_that_others_made(self):
         rnd = random.Random(20)
         counted = {True: 0, False: 0}
@@ -434,6 +451,10 @@ class TestWithin(unittest.TestCase):
         for walk, turn in (((), ('a',)), (('a',), ()), (('b',), ('a',)), (('a',), ('b',)), ((), ('a', 'a'))):
             self.assertIs(shows_within(one, other, ('ring', walk, turn)), False)
         self.assertIs(shows_within(one, other, ('ring', ('a',), ('a',))), True)
+
+    def test_no_number_where_something_is_heard_alike_for_ever(self):
+        for value in (None, 0, 1, 16, 17, (), 'None'):
+            self.assertIs(shows_within(LAMP, THREE, ('within', value)), False)
 
     def test_walks_of_24_calls(self):
         for walk, turn, right in ((24, 24, True), (0, 24, True), (24, 1, True), (25, 1, False), (0, 25, False), (0, 0, False)):

@@ -36,7 +36,7 @@ def shows_cheapest(device, m, menu, reset, value):
         return False
     if value[0] == "passes":
         return does_pass(device, asked(device, menu), m, value[1:])
-    if found[0] == "passes" or len(value) != 4 or not is_same(value[:3], found[:3]):
+    if len(value) != 4 or not is_same(value[:3], found[:3]):
         return False
     if not isinstance(value[3], tuple) or len(value[3]) != len(found[3]):
         return False

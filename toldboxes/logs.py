@@ -61,7 +61,6 @@ def knowing(device, log):
 def left(devices, log):
     """The numbers of the devices that can have told the log."""
     refuse_devices(devices)
-    refuse_log(log, devices[0])
     return tuple([number for number, device in enumerate(devices) if first(device, log)])
 
 

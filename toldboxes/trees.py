@@ -98,8 +98,7 @@ def is_tree(devices, held, value, deep):
     parts = answered(devices, held, call)
     if not isinstance(branches, tuple) or len(branches) != len(parts):
         return False
-    if lots_led(devices, standings_of(held), call) is None:
-        return False
+    # Standings that a call brings together stay so: no tree comes to a leaf behind it.
     for (answer, led), branch in zip(parts, branches):
         if not isinstance(branch, tuple) or len(branch) != 2 or not is_same(branch[0], answer):
             return False
