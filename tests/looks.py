@@ -50,8 +50,8 @@ def bad_device(text):
     return None
 
 
-def bad_tests(text):
-    """The number that BadTests tells; None if the text has the form of tests."""
+def bad_tests(text, word='test'):
+    """The number that BadTests tells; None if the text has the form of tests, or of tellings."""
     if type(text) is not str:
         return 0
     lines = text.split('\n')
@@ -62,7 +62,7 @@ def bad_tests(text):
                 return number
             continue
         calls, answers = [set(known.split(' ')[1:]) for known in lines[:2]]
-        if not re.fullmatch(f'test( {NAME} {NAME}){{1,12}}', line) or number > 62:
+        if not re.fullmatch(f'{word}( {NAME} {NAME}){{1,12}}', line) or number > 62:
             return number
         words = line.split(' ')[1:]
         if not set(words[::2]) <= calls or not set(words[1::2]) <= answers:
@@ -482,3 +482,64 @@ def look_at_homing(device, states):
         if all(len(goals) == 1 for goals in ends.values()):
             return walk
     raise AssertionError('no walk brings it home')
+
+
+def bad_watch(text):
+    """The number that BadWatch tells; None if the text is a watch."""
+    if type(text) is not str:
+        return 0
+    lines = text.split('\n')
+    steps = set()
+    for number, line in enumerate(lines, 1):
+        if number <= 3:
+            head, fewest, most = (('calls', 1, 3), ('answers', 2, 3), ('marks', 1, 4))[number - 1]
+            if not stands_once(line, head, fewest, most) or (number == 3 and 'broken' in line.split(' ')[1:]):
+                return number
+            continue
+        calls, answers, marks = [set(known.split(' ')[1:]) for known in lines[:3]]
+        words = line.split(' ')
+        if len(words) != 5 or words[0] != 'step' or words[1] not in marks or words[2] not in calls:
+            return number
+        if words[3] not in answers or words[4] not in marks | {'broken'} or tuple(words[1:4]) in steps:
+            return number
+        steps.add(tuple(words[1:4]))
+    return len(lines) + 1 if len(lines) < 3 else None
+
+
+class Guard:
+    """A watch as the tests see it: all steps are told, also those that lead to the mark itself."""
+
+    def __init__(self, text):
+        assert bad_watch(text) is None, text
+        lines = text.split('\n')
+        self.calls, self.answers, self.marks = [calls_of(line) for line in lines[:3]]
+        self.calm = None
+        self.goals = {}
+        for mark in self.marks + ('broken',):
+            for call in self.calls:
+                for answer in self.answers:
+                    self.goals[mark, call, answer] = mark
+        for line in lines[3:]:
+            _, mark, call, answer, goal = line.split(' ')
+            self.goals[mark, call, answer] = goal
+
+    def go(self, log, mark=None):
+        """The mark behind a log."""
+        mark = self.marks[0] if mark is None else mark
+        for call, answer in log:
+            mark = self.goals[mark, call, answer]
+        return mark
+
+    def at_risk(self, mark, call):
+        """Whether some answer to this call leads to broken, or to a mark that is not safe."""
+        if self.calm is None:
+            self.calm = set(self.safe())
+        return any(self.goals[mark, call, answer] not in self.calm for answer in self.answers)
+
+    def safe(self):
+        """The marks from which no steps lead to broken: those that are left when all others went."""
+        left = set(self.marks)
+        for _ in self.marks:
+            left = {mark for mark in left if all(
+                self.goals[mark, call, answer] in left for call in self.calls for answer in self.answers)}
+        return tuple(mark for mark in self.marks if mark in left)

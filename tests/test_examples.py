@@ -112,6 +112,35 @@ Section 17:
 [('r', 't'), ('r', 's'), 3, None, ('always', ('x',)), 'open']
 >>> [knowing(ring, page), knowing(ring, ()), knowing(ring, (('a', 'y'),)), left((lamp, other), (('b', 'y'),)), expected(lamp, (('a', 'x'), ('a', 'x')), ())]
 [('a',), ('a', 'a'), (), (0, 1), ('torn', 1)]
+
+Section 18:
+
+>>> from toldboxes.tellings import Tellings, nearest, shows_stands, stands, voted, wrongs
+>>> said = Tellings('calls a b\\nanswers x y\\ntold a x a y\\ntold a x a x\\ntold a x a y\\ntold b y')
+>>> [wrongs(lamp, said), nearest((other, lamp), said), stands(lamp, said, 0), stands(lamp, said, 1)[0], voted(said)]
+[1, (1, 1), ('wrong', 1), 'falls', ('tests', 'calls a b\\nanswers x y\\ntest b y\\ntest a x a y')]
+>>> voted(Tellings('calls a b\\nanswers x y\\ntold a x a y\\ntold a x a x'))
+('even', ('a', 'a'))
+
+Sections 19 and 20:
+
+>>> from toldboxes.keeping import always_kept, kept, shows_always_kept, shows_kept
+>>> from toldboxes.watches import Watch, safe, verdict
+>>> watch = Watch('calls a b\\nanswers x y\\nmarks idle on\\nstep idle a x on\\nstep idle a y broken\\nstep on a y idle\\nstep on a x broken')
+>>> [watch.behind((('a', 'x'), ('b', 'y'))), safe(watch), verdict(watch, ()), verdict(watch, (('a', 'y'),)), kept(lamp, watch), kept(lamp.turned('q', 'a', 'y', 'q'), watch)]
+['on', (), 'held', 'broken', ('kept', (('p', 'idle'), ('q', 'on'))), ('broken', ('a', 'a', 'a'))]
+>>> [always_kept(enough, watch, 2)[0], always_kept(few, watch, 1)[0], shows_always_kept(few, watch, 2, ('broken', (0, 1, 0, 0, 1), (('a', 'x'), ('b', 'y'), ('a', 'x'))))]
+['kept', 'none', True]
+
+Section 21:
+
+>>> from toldboxes.before import fits_before, shows_fits_before, shows_widest_before, widest_before
+>>> plain = Device('calls a b\\nanswers a b\\nstates o\\nrow o a a o\\nrow o b b o')
+>>> steady = Device('calls a b\\nanswers x y\\nstates i\\nrow i a x i\\nrow i b y i')
+>>> [fits_before(plain, lamp, lamp), fits_before(plain, lamp, steady), widest_before(lamp, lamp)[1][0], widest_before(lamp, steady)[0]]
+[('fits', (('o', 'p', 'p'), ('o', 'q', 'q'))), ('apart', ('a', 'a')), (('p', 'p'), 'a', ('a',)), 'never']
+>>> shows_widest_before(lamp, steady, ('never', ((('q', 'i'), 'a'), (('p', 'i'), 'a'))))
+True
 """
 
 import doctest

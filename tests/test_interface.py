@@ -25,6 +25,13 @@ FUNCTIONS = {
                 'within': 'one other', 'shows_within': 'one other value'},
     'logs': {'now': 'device log', 'first': 'device log', 'torn': 'device log', 'expected': 'device log walk',
              'shows_expected': 'device log walk value', 'knowing': 'device log', 'left': 'devices log'},
+    'tellings': {'wrongs': 'device tellings', 'nearest': 'devices tellings', 'voted': 'tellings',
+                 'stands': 'device tellings lies', 'shows_stands': 'device tellings lies value'},
+    'watches': {'safe': 'watch', 'verdict': 'watch log'},
+    'keeping': {'kept': 'device watch', 'shows_kept': 'device watch value', 'always_kept': 'tests watch m',
+                'shows_always_kept': 'tests watch m value'},
+    'before': {'fits_before': 'part known wanted', 'shows_fits_before': 'part known wanted value',
+               'widest_before': 'known wanted', 'shows_widest_before': 'known wanted value'},
 }
 METHODS = {
     ('devices', 'Device'): {
@@ -33,6 +40,16 @@ METHODS = {
     ('records', 'Tests'): {
         '__init__': 'text', 'told': 'node', 'more': 'row', 'without': 'number', '__len__': '', '__contains__': 'value',
         '__eq__': 'other'},
+    ('tellings', 'Tellings'): {'__init__': 'text', '__len__': '', '__eq__': 'other'},
+    ('watches', 'Watch'): {
+        '__init__': 'text', 'behind': 'log', '__len__': '', '__contains__': 'value', '__eq__': 'other'},
+}
+HEADS = 'calls a\nanswers x y'
+ATTRIBUTES = {
+    ('devices', 'Device'): (HEADS + '\nstates s\nrow s a x s', 'text calls answers states'),
+    ('records', 'Tests'): (HEADS, 'text calls answers rows walks nodes'),
+    ('tellings', 'Tellings'): (HEADS, 'text calls answers rows'),
+    ('watches', 'Watch'): (HEADS + '\nmarks i', 'text calls answers marks'),
 }
 
 
@@ -53,6 +70,12 @@ class TestInterface(unittest.TestCase):
             for method, parameters in methods.items():
                 self.assertIn(method, vars(found))
                 self.assertEqual(' '.join(inspect.signature(vars(found)[method]).parameters), f'self {parameters}'.strip())
+
+    def test_attributes(self):
+        for (name, kind), (text, attributes) in ATTRIBUTES.items():
+            made = getattr(importlib.import_module(f'toldboxes.{name}'), kind)(text)
+            for attribute in attributes.split(' '):
+                self.assertIn(attribute, vars(made))
 
 
 if __name__ == '__main__':

@@ -10,22 +10,12 @@ from toldboxes.errors import BadDevices, BadLog, BadWalk, NotLeast
 from toldboxes.homing import homing
 from toldboxes.logs import expected, first, knowing, left, now, shows_expected, torn
 from values import (
-    FAR, FEW, LAMP, RING, STEADY, THREE, any_values, least_devices, random_text, random_walks, renamed,
-    some_variants,
+    FAR, FEW, LAMP, RING, STEADY, THREE, any_values, bad_devices, bad_logs, least_devices, random_text, random_walks,
+    renamed, some_variants,
 )
 
 PAGE = (('a', 'x'), ('b', 'x'))
 OTHER = LAMP.turned('p', 'a', 'y', 'q').turned('p', 'b', 'x', 'p')
-
-
-def bad_logs():
-    """What is no log of a device with the calls a and b and the answers x and y."""
-    pair = ('a', 'x')
-    return any_values() + [
-        0, 1, 'a', pair, [pair], ([*pair],), (pair,) * 25, (pair, ()), (pair, ('a',)), (pair, ('a', 'x', 'a')),
-        (('x', 'a'),), (('a', 'z'),), (('c', 'x'),), (('a', 0),), ((0, 'x'),), (pair, None), ((pair,),), ('ax',),
-        (('a', ('x',)),), ((('a',), 'x'),), (pair, ('b', 'x ')),
-    ]
 
 
 def agreeing_states(device, log):
@@ -106,13 +96,7 @@ class TestErrors(Raising, unittest.TestCase):
                 self.assert_tells(NotLeast, device, knowing, device, log)
 
     def test_bad_devices(self):
-        others = [
-            (), (LAMP,), (LAMP,) * 5, [LAMP, LAMP], LAMP, (LAMP, None), (FEW, FEW), (LAMP, FEW), (LAMP, FAR), (FAR, LAMP),
-            (LAMP, RING, LAMP, FAR), (LAMP, Device(LAMP.text.replace('calls a b', 'calls b a'))),
-            (LAMP, Device(LAMP.text.replace('answers x y', 'answers y x'))),
-            (LAMP, Device(LAMP.text.replace('answers x y', 'answers x y z'))),
-        ]
-        for value in any_values() + others:
+        for value in bad_devices():
             for log in ((), (('a', 'x'),), None):
                 self.assert_tells(BadDevices, value, left, value, log)
 

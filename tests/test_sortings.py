@@ -11,19 +11,13 @@ from toldboxes.devices import Device
 from toldboxes.errors import BadNumber, BoxError, Long
 from toldboxes.records import Tests, asked
 from toldboxes.sortings import fits, nth_sorting, shows_fits, sortings
-from values import ENOUGH, FEW, LAMP, STEADY, any_values, random_text, random_walks, renamed, some_variants
+from values import (
+    ENOUGH, FEW, LAMP, ONE_MORE, SIX_HUNDRED, STEADY, any_values, random_text, random_walks, renamed, some_variants,
+)
 
 NONE = Tests('calls a b\nanswers x y')
 ONE_CALL = Tests('calls a\nanswers x y\ntest a x a y')
 THREE_CALLS = Tests('calls a b c\nanswers x y\ntest a x b y c x')
-SIX_HUNDRED = (
-    (Tests('calls a b\nanswers x y\ntest b x b x\ntest a x a x b x\ntest b x a x\ntest a x a x a y b x'), 4),
-    (Tests('calls a b c\nanswers x y\ntest c x c x b x a x\ntest a x b x b x\ntest c x c x b x\ntest c x a x'), 3),
-)
-ONE_MORE = (
-    (Tests('calls a b\nanswers x y\ntest b x a x b x b x\ntest a y b x a x\ntest a y a x'), 4),
-    (Tests('calls a b c\nanswers x y\ntest c x c x a y\ntest b x a x b x\ntest a y c x b x'), 3),
-)
 WEAK = asked(STEADY, tuple(itertools.product('ab', repeat=3)))
 
 

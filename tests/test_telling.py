@@ -10,8 +10,8 @@ from toldboxes.devices import Device
 from toldboxes.errors import BadDevices, NotLeast, OtherCalls
 from toldboxes.telling import shows_telling, shows_which, shows_within, telling, which, within
 from values import (
-    FAR, FEW, LAMP, RING, STEADY, THREE, TURNING, any_values, least_devices, random_text, random_walks, renamed,
-    some_variants,
+    FAR, FEW, LAMP, RING, STEADY, THREE, TURNING, any_values, bad_devices, least_devices, random_text, random_walks,
+    renamed, some_variants,
 )
 
 OTHER = LAMP.turned('p', 'a', 'y', 'q').turned('p', 'b', 'x', 'p')
@@ -155,14 +155,7 @@ class TestErrors(Raising, unittest.TestCase):
                 self.assert_tells(NotLeast, device, shows_telling, device, value)
 
     def test_bad_devices(self):
-        others = [
-            (), (LAMP,), (LAMP,) * 5, [LAMP, LAMP], LAMP, (LAMP, LAMP.text), (LAMP, None), (LAMP, (LAMP,)), (FEW, FEW),
-            (LAMP, FEW), (LAMP, RING, FEW), (LAMP, FAR), (FAR, LAMP), (LAMP, LAMP, FAR), (LAMP, RING, LAMP, FAR), (0, 1),
-            ('a', 'b'), {LAMP.text: LAMP, 'b': RING},
-        ]
-        for old, new in (('calls a b', 'calls b a'), ('answers x y', 'answers y x'), ('answers x y', 'answers x y z')):
-            others += [(LAMP, Device(LAMP.text.replace(old, new))), (Device(LAMP.text.replace(old, new)), LAMP, LAMP)]
-        for value in any_values() + others:
+        for value in bad_devices():
             self.assert_tells(BadDevices, value, which, value)
             self.assert_tells(BadDevices, value, shows_which, value, None)
             self.assert_tells(BadDevices, value, shows_which, value, ('tree', 0))

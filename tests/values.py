@@ -5,6 +5,7 @@ import random
 from toldboxes.devices import Device
 from toldboxes.forms import least
 from toldboxes.records import Tests, asked
+from toldboxes.watches import Watch
 
 LAMP = Device('calls a b\nanswers x y\nstates p q\nrow p a x q\nrow p b y p\nrow q a y p\nrow q b y q')
 THREE = Device(
@@ -21,6 +22,15 @@ FAR = Device('calls a\nanswers x y\nstates p q\nrow p a x p\nrow q a y q')
 FEW = Tests('calls a b\nanswers x y\ntest a x a y\ntest b y a x')
 ENOUGH = asked(LAMP, (('b', 'a'), ('a', 'a', 'a'), ('a', 'b', 'a')))
 MENU = (('b', 'a'), ('a', 'a', 'a'), ('a', 'b', 'a'), ('b', 'a', 'a', 'a', 'b', 'a'))
+# Tests and numbers by which they have 600 sortings, and 601.
+SIX_HUNDRED = (
+    (Tests('calls a b\nanswers x y\ntest b x b x\ntest a x a x b x\ntest b x a x\ntest a x a x a y b x'), 4),
+    (Tests('calls a b c\nanswers x y\ntest c x c x b x a x\ntest a x b x b x\ntest c x c x b x\ntest c x a x'), 3),
+)
+ONE_MORE = (
+    (Tests('calls a b\nanswers x y\ntest b x a x b x b x\ntest a y b x a x\ntest a y a x'), 4),
+    (Tests('calls a b c\nanswers x y\ntest c x c x a y\ntest b x a x b x\ntest a y c x b x'), 3),
+)
 # Other calls and answers than the lamp has, or in another sequence.
 OTHER_HEADS = (
     'calls b a\nanswers x y', 'calls a b\nanswers y x', 'calls a\nanswers x y', 'calls a b c\nanswers x y',
@@ -68,6 +78,28 @@ def bad_lots():
         (('q',),), (('q', 'a', 'x'),), (('z', 'a'),), (('q', 'c'),), (('q', 0),), ((0, 'a'),), (row, None), ((row,),),
         (('q', 'a '),), (('q', ('a',)),), ((('q',), 'a'),), ('qa',), (row, ('q', ['a'])),
     ]
+
+
+def bad_logs():
+    """What is no log of a device with the calls a and b and the answers x and y."""
+    pair = ('a', 'x')
+    return any_values() + [
+        0, 1, 'a', pair, [pair], ([*pair],), (pair,) * 25, (pair, ()), (pair, ('a',)), (pair, ('a', 'x', 'a')),
+        (('x', 'a'),), (('a', 'z'),), (('c', 'x'),), (('a', 0),), ((0, 'x'),), (pair, None), ((pair,),), ('ax',),
+        (('a', ('x',)),), ((('a',), 'x'),), (pair, ('b', 'x ')),
+    ]
+
+
+def bad_devices():
+    """What is no tuple of two to four devices with the same calls and answers."""
+    others = [
+        (), (LAMP,), (LAMP,) * 5, [LAMP, LAMP], LAMP, (LAMP, LAMP.text), (LAMP, None), (LAMP, (LAMP,)), (FEW, FEW),
+        (LAMP, FEW), (LAMP, RING, FEW), (LAMP, FAR), (FAR, LAMP), (LAMP, LAMP, FAR), (LAMP, RING, LAMP, FAR), (0, 1),
+        ('a', 'b'), {LAMP.text: LAMP, 'b': RING},
+    ]
+    for old, new in (('calls a b', 'calls b a'), ('answers x y', 'answers y x'), ('answers x y', 'answers x y z')):
+        others += [(LAMP, Device(LAMP.text.replace(old, new))), (Device(LAMP.text.replace(old, new)), LAMP, LAMP)]
+    return any_values() + others
 
 
 def variants(value, stand_ins):
@@ -168,4 +200,22 @@ def renamed(text, names):
         else:
             kinds = (head,) * len(words)
         lines.append(' '.join([head] + [names[kind][word] for kind, word in zip(kinds, words)]))
+    return '\n'.join(lines)
+
+
+WATCH = Watch('calls a b\nanswers x y\nmarks idle on\nstep idle a x on\nstep idle a y broken\nstep on a y idle\n'
+              'step on a x broken')
+# Behind b x nothing can break it any more; behind a x a y it is at the mark third.
+HALF = Watch('calls a b\nanswers x y\nmarks first calm third\nstep first b x calm\nstep first a x third\n'
+             'step third a y broken\nstep third b x first')
+CALM = Watch('calls a b\nanswers x y\nmarks one')
+
+
+def watch_text(rnd, calls, answers, many, steps, broken):
+    """The text of any watch with so many marks and steps; broken is how likely a step breaks it."""
+    marks = rnd.sample(['i', 'on', 'step', 'marks', 'm1', 'a', 'x'], many)
+    places = [(mark, call, answer) for mark in marks for call in calls for answer in answers]
+    lines = [' '.join(['calls', *calls]), ' '.join(['answers', *answers]), ' '.join(['marks', *marks])]
+    for place in rnd.sample(places, min(steps, len(places))):
+        lines.append(' '.join(['step', *place, 'broken' if rnd.random() < broken else rnd.choice(marks)]))
     return '\n'.join(lines)

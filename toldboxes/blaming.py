@@ -1,9 +1,9 @@
 """Which rows are to blame for tests that fail."""
 
 from toldboxes.choosing import refuse_menu
-from toldboxes.errors import BadNumber, OtherCalls
+from toldboxes.errors import BadNumber
 from toldboxes.forms import least
-from toldboxes.likeness import same_words
+from toldboxes.likeness import refuse_words
 from toldboxes.lots import agreeing_version, fillings, refuse_lot, versions_by
 from toldboxes.words import is_whole
 
@@ -51,12 +51,6 @@ def halving(device, tests, many, menu):
     suspects = all_suspects(device, tests, many)
     left = [most_alike([suspect.heard(walk) for suspect in suspects]) for walk in menu]
     return left.index(min(left)), min(left)
-
-
-def refuse_words(device, tests):
-    """Raises OtherCalls unless device and tests have the same calls and answers in the same sequence."""
-    if not same_words(device, tests):
-        raise OtherCalls(tests)
 
 
 def refuse_many(many):

@@ -52,6 +52,15 @@ class Beginning:
         """The class in which any value is; None if it is no node or nothing is said of it."""
         return self.classes[self.tree.numbers[value]] if value in self.tree.tests else None
 
+    def rows_said(self):
+        """By (class, call) the answers told there, by nodes of which something is said, and the class of these."""
+        rows = {}
+        for at in range(1, len(self.classes)):
+            if self.classes[at] is not None:
+                row = (self.classes[self.tree.parents[at]], self.tree.nodes[at][-1])
+                rows.setdefault(row, ([], self.classes[at]))[0].append(self.tree.replies[at])
+        return rows
+
     def _go_on(self):
         """Finds the classes of the nodes behind (); parents stand ahead of the nodes behind them."""
         tree, classes = self.tree, self.classes

@@ -4,34 +4,12 @@ from toldboxes.cases import Sorter, Tree, are_cases, cases_of
 from toldboxes.devices import MOST_STEPS
 from toldboxes.errors import BadWalk
 from toldboxes.forms import first_walks
+from toldboxes.known import Known, rows_known
 from toldboxes.likeness import is_heard_otherwise, meet
 from toldboxes.proving import refuse_few, refuse_tests
 from toldboxes.records import agreeing
 from toldboxes.sortings import all_sortings, refuse_number, text_with
 from toldboxes.words import in_sequence, is_same, is_walk
-
-
-class Known:
-    """The rows of the classes of a sorting, read as those of a device are; class 0 is the one of ()."""
-
-    def __init__(self, tree, classes):
-        calls = tree.tests.calls
-        self._rows = {}
-        for at in range(1, len(classes)):
-            self._rows[(classes[tree.parents[at]], calls[tree.steps[at]])] = (tree.replies[at], classes[at])
-
-    def row(self, place, call):
-        """What is answered in this class, and the class behind it; None for both where no node tells the row."""
-        return self._rows.get((place, call), (None, None))
-
-    def gone(self, walk):
-        """The answers to the calls of the walk, and the class behind it; None from the first row that is not told."""
-        place = 0
-        answers = []
-        for call in walk:
-            answer, place = self.row(place, call)
-            answers.append(answer)
-        return tuple(answers), place
 
 
 def judged(tests, m, walk):
@@ -96,9 +74,9 @@ def judgement(tests, m, walk):
     first = classes = sorter.advance()
     if first is None:
         return ("none",)
-    answers = Known(tree, first).gone(walk)[0]
+    answers = Known(rows_known(tree, first)).gone(walk)[0]
     while classes is not None:
-        heard = Known(tree, classes).gone(walk)[0]
+        heard = Known(rows_known(tree, classes)).gone(walk)[0]
         if None in heard:
             return "open", text_with(tree, classes, tests.answers[0]), text_with(tree, classes, tests.answers[1])
         if heard != answers:
@@ -135,7 +113,7 @@ def all_known(device, tests, m):
     refuse_tests(device, tests)
     refuse_few(device, m)
     tree = Tree(tests)
-    return [Known(tree, classes) for classes in all_sortings(tests, m)]
+    return [Known(rows_known(tree, classes)) for classes in all_sortings(tests, m)]
 
 
 def rows_come(device, is_right):

@@ -66,8 +66,14 @@ def meet(one, state, other, begin):
 
 
 def same_words(one, other):
-    """Whether two devices, or a device and tests, have the same calls and answers in the same sequence."""
+    """Whether two devices, or tests or what is like them, have the same calls and answers in the same sequence."""
     return one.calls == other.calls and one.answers == other.answers
+
+
+def refuse_words(one, other):
+    """Raises OtherCalls unless both have the same calls and answers in the same sequence."""
+    if not same_words(one, other):
+        raise OtherCalls(other)
 
 
 def is_heard_otherwise(one, other, walk):

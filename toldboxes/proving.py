@@ -2,9 +2,9 @@
 
 from toldboxes.cases import Sorter, Tree, are_cases, cases_of
 from toldboxes.devices import Device
-from toldboxes.errors import Against, Few, OtherCalls
+from toldboxes.errors import Against, Few
 from toldboxes.forms import kinds, least
-from toldboxes.likeness import alike, is_heard_otherwise, same_words
+from toldboxes.likeness import alike, is_heard_otherwise, refuse_words
 from toldboxes.records import agreeing, wrong
 from toldboxes.sortings import all_sortings, most_classes, refuse_number, text_by
 from toldboxes.words import is_among, is_whole
@@ -59,8 +59,7 @@ def needless(device, tests, m):
 
 def refuse_tests(device, tests):
     """Raises what is due if the device does not agree with the tests."""
-    if not same_words(device, tests):
-        raise OtherCalls(tests)
+    refuse_words(device, tests)
     against = wrong(device, tests)
     if against:
         raise Against(against[0])
@@ -173,13 +172,9 @@ def is_alike_end(device, numbers, beginning, value):
 
 def rows_done(device, numbers, beginning, states):
     """The list of the rows (class, call) that some node tells as the device has them for the states of the classes."""
-    tree = beginning.tree
     done = []
-    for at in range(1, len(tree.nodes)):
-        place = beginning.classes[at]
-        if place is not None:
-            row = (beginning.classes[tree.parents[at]], tree.nodes[at][-1])
-            answer, goal = device.row(states[row[0]], row[1])
-            if answer == tree.replies[at] and numbers[goal] == numbers[states[place]] and row not in done:
-                done.append(row)
+    for (place, call), (answers, behind) in beginning.rows_said().items():
+        answer, goal = device.row(states[place], call)
+        if answer in answers and numbers[goal] == numbers[states[behind]]:
+            done.append((place, call))
     return done

@@ -1,9 +1,9 @@
 """Tests: what was answered to calls from the first state on."""
 
 from toldboxes.devices import read_device
-from toldboxes.errors import BadTest, BadTests, BadWalks, Full, Many, NoNode, NoTest, OtherCalls, Quarrel
-from toldboxes.likeness import same_words
-from toldboxes.words import MOST_PAIRS, in_sequence, is_row, is_walk, is_whole, pairs_in, read_heads
+from toldboxes.errors import BadTest, BadTests, BadWalks, Full, Many, NoNode, NoTest, Quarrel
+from toldboxes.likeness import refuse_words, same_words
+from toldboxes.words import MOST_PAIRS, in_sequence, is_row, is_walk, is_whole, line_of, read_heads, read_rows
 
 HEADS = (("calls", 1, 3), ("answers", 2, 3))
 MOST_TESTS = 60
@@ -22,7 +22,9 @@ class Tests:
             raise BadTests(bad)
         self.text = text
         self.calls, self.answers = heads
-        self.rows = read_rows(lines, self.calls, self.answers)
+        self.rows, bad = read_rows(lines, "test", MOST_TESTS, self.calls, self.answers)
+        if bad > 0:
+            raise BadTests(bad)
         refuse_quarrels(self.rows)
         self.walks = tuple([walk_of(row) for row in self.rows])
         self._told = answers_told(self.rows)
@@ -42,7 +44,7 @@ class Tests:
             raise BadTest(row)
         if len(self.rows) == MOST_TESTS:
             raise Full(MOST_TESTS)
-        return Tests(self.text + "\n" + line_of(row))
+        return Tests(self.text + "\n" + line_of("test", row))
 
     def without(self, number):
         """The tests without the one that has this number."""
@@ -60,17 +62,6 @@ class Tests:
 
     def __eq__(self, other):
         return isinstance(other, Tests) and self.text == other.text
-
-
-def read_rows(lines, calls, answers):
-    """The tests in the lines behind the first two."""
-    rows = []
-    for at in range(len(HEADS), len(lines)):
-        row = pairs_in(lines[at], "test", calls, answers)
-        if not row or len(rows) == MOST_TESTS:
-            raise BadTests(at + 1)
-        rows.append(row)
-    return tuple(rows)
 
 
 def refuse_quarrels(rows):
@@ -112,19 +103,18 @@ def answers_of(row):
     return tuple([pair[1] for pair in row])
 
 
-def line_of(row):
-    """The line of a test."""
-    return " ".join(["test"] + [f"{call} {answer}" for call, answer in row])
+def text_of_tests(calls, answers, rows):
+    """The text of the tests with these calls and answers, and these rows."""
+    heads = [" ".join(["calls", *calls]), " ".join(["answers", *answers])]
+    return "\n".join(heads + [line_of("test", row) for row in rows])
 
 
 def asked(device, walks):
     """The tests with these walks, as the device answers them."""
     if not are_walks(walks, device.calls):
         raise BadWalks(walks)
-    lines = [" ".join(["calls", *device.calls]), " ".join(["answers", *device.answers])]
-    for walk in walks:
-        lines.append(line_of(tuple(zip(walk, device.heard(walk)))))
-    return Tests("\n".join(lines))
+    rows = [tuple(zip(walk, device.heard(walk))) for walk in walks]
+    return Tests(text_of_tests(device.calls, device.answers, rows))
 
 
 def are_walks(value, calls):
@@ -136,8 +126,7 @@ def are_walks(value, calls):
 
 def wrong(device, tests):
     """The numbers of the tests with which the device does not agree."""
-    if not same_words(device, tests):
-        raise OtherCalls(tests)
+    refuse_words(device, tests)
     return tuple([at for at, row in enumerate(tests.rows) if device.heard(walk_of(row)) != answers_of(row)])
 
 

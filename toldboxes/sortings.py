@@ -74,6 +74,26 @@ def first_sortings(tests, m):
     return found
 
 
+def is_sorting(tree, m, value):
+    """Whether any value is the tuple of the classes of all nodes by a sorting by m."""
+    if not isinstance(value, tuple) or len(value) != len(tree.nodes):
+        return False
+    if not all([is_whole(place, 0, m - 1) for place in value]):
+        return False
+    # Each class is there already, or it is the next one.
+    many = 0
+    for place in value:
+        if place > many:
+            return False
+        many = max(many, place + 1)
+    rows = {}
+    for at in range(1, len(value)):
+        told = (tree.replies[at], value[at])
+        if rows.setdefault((value[tree.parents[at]], tree.steps[at]), told) != told:
+            return False
+    return True
+
+
 def text_with(tree, classes, answer):
     """The text of a device that comes of a sorting; rows that no node tells have this answer."""
     return text_by(tree, classes, [[answer] * tree.width for _ in range(max(classes) + 1)])

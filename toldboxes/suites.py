@@ -4,7 +4,7 @@ from toldboxes.errors import BadNumber, Wide
 from toldboxes.forms import first_walks, least
 from toldboxes.likeness import parting
 from toldboxes.records import MOST_NODES, MOST_TESTS, asked
-from toldboxes.words import in_sequence, is_whole
+from toldboxes.words import in_sequence, is_whole, longest_of
 
 MOST_RESET = 99
 
@@ -34,14 +34,8 @@ def suite(device, more):
     """The tests that prove the device among all of at most so many more states than its least form has."""
     if not is_whole(more, 0, 1):
         raise BadNumber(more)
-    walks = suite_walks(device, more)
-    beginnings = {walk[:many] for walk in walks for many in range(len(walk))}
-    longest = []
-    for walk in in_sequence(walks, device.calls):
-        if walk not in beginnings and walk not in longest:
-            longest.append(walk)
-    # Each node is a walk of the suite or the beginning of one.
-    if len(longest) > MOST_TESTS or len(longest) + len(beginnings) > MOST_NODES:
+    longest, nodes = longest_of(suite_walks(device, more), device.calls)
+    if len(longest) > MOST_TESTS or nodes > MOST_NODES:
         raise Wide(len(longest))
     return asked(device, tuple(longest))
 

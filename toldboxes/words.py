@@ -44,6 +44,22 @@ def pairs_in(line, head, calls, answers):
     return row if is_row(row, calls, answers, 1, MOST_PAIRS) else ()
 
 
+def read_rows(lines, head, most, calls, answers):
+    """The rows in the lines behind the first two, at most so many, and the number of the bad line or 0."""
+    rows = []
+    for at in range(2, len(lines)):
+        row = pairs_in(lines[at], head, calls, answers)
+        if not row or len(rows) == most:
+            return tuple(rows), at + 1
+        rows.append(row)
+    return tuple(rows), 0
+
+
+def line_of(head, row):
+    """The line of a row of pairs, behind the word head."""
+    return " ".join([head] + [f"{call} {answer}" for call, answer in row])
+
+
 def is_among(value, names):
     """Whether any value is one of these names."""
     return isinstance(value, str) and value in names
@@ -59,6 +75,11 @@ def is_walk(value, calls, fewest, most):
     if not isinstance(value, tuple) or not fewest <= len(value) <= most:
         return False
     return all([is_among(call, calls) for call in value])
+
+
+def is_long_walk(value, calls):
+    """Whether any value is a tuple of any number of these calls."""
+    return isinstance(value, tuple) and all([is_among(call, calls) for call in value])
 
 
 def is_pair(value, calls, answers):
@@ -78,6 +99,17 @@ def is_row(value, calls, answers, fewest, most):
 def in_sequence(walks, calls):
     """The list of these walks as walks stand in sequence."""
     return sorted(walks, key=lambda walk: (len(walk), [calls.index(call) for call in walk]))
+
+
+def longest_of(walks, calls):
+    """The list of those walks by which no longer one begins, each once, in sequence; and how many nodes they have."""
+    beginnings = {walk[:many] for walk in walks for many in range(len(walk))}
+    longest = []
+    for walk in in_sequence(walks, calls):
+        if walk not in beginnings and walk not in longest:
+            longest.append(walk)
+    # Each node is one of these walks or the beginning of one; () is a node where there are no walks, too.
+    return longest, max(1, len(longest) + len(beginnings))
 
 
 def is_same(value, told):
