@@ -404,6 +404,20 @@ def rows_agreeing(said, m):
                 waiting.append(({**rows, (state, call): (answer, goal)}, number + 1, goal, max(many, goal + 1)))
 
 
+def heard_by_all(said, m, walk):
+    """The set of the answers of all devices of at most m states that agree; two at least where some row is free."""
+    heard = set()
+    for rows in rows_agreeing(said, m):
+        state, answers = 0, []
+        for call in walk:
+            if (state, call) not in rows:
+                return {None, 0}
+            answer, state = rows[state, call]
+            answers.append(answer)
+        heard.add(tuple(answers))
+    return heard
+
+
 def is_unlike(device, rows):
     """Whether some device with these rows, of a device that begins at 0, is not alike with device."""
     pairs = [(device.states[0], 0)]

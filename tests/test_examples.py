@@ -141,6 +141,36 @@ Section 21:
 [('fits', (('o', 'p', 'p'), ('o', 'q', 'q'))), ('apart', ('a', 'a')), (('p', 'p'), 'a', ('a',)), 'never']
 >>> shows_widest_before(lamp, steady, ('never', ((('q', 'i'), 'a'), (('p', 'i'), 'a'))))
 True
+
+Section 22:
+
+>>> from toldboxes.behind import fits_behind, led, proves_behind, same_behind, shows_proves_behind, shows_widest_behind, widest_behind
+>>> turn = Device('calls x y\\nanswers x y\\nstates o\\nrow o x y o\\nrow o y x o')
+>>> back = Device('calls a b\\nanswers x y\\nstates p q\\nrow p a y q\\nrow p b x p\\nrow q a x p\\nrow q b x q')
+>>> [fits_behind(turn, lamp, back), widest_behind(lamp, back)[1][:2], widest_behind(steady, lamp)[0], widest_behind(lamp, steady)[0], shows_widest_behind(lamp, steady, ('never', ('a', 'a'), ('a', 'b')))]
+[('fits', (('o', 'p', 'p'), ('o', 'q', 'q'))), (((('p', 'p'),), 'x', 'y'), ((('p', 'p'),), 'y', 'x')), 'widest', 'never', True]
+>>> whole = Tests('calls a b\\nanswers x y\\ntest a y a x\\ntest b x')
+>>> [led(lamp, whole).rows, proves_behind(lamp, turn, whole, 1)[0], proves_behind(lamp, turn, whole, 2)[0]]
+[((('x', 'y'), ('y', 'x')), (('y', 'x'),)), 'proved', 'passes']
+
+Section 23:
+
+>>> from toldboxes.benches import Bench
+>>> bench = Bench('calls a b\\nanswers x y\\nmost 2')
+>>> [bench.tell(row) for row in suite(lamp, 0).rows]
+[None, None, None]
+>>> [bench.sure(('a', 'a', 'b', 'a')), bench.known()[:2] == ('device', least(lamp).text), bench.limit(3), bench.sure(('a', 'a', 'b')), bench.undo(), len(bench), ('a', 'b') in bench, bench.done]
+[('x', 'y', 'y', 'x'), True, None, None, None, 3, True, 3]
+
+Section 24:
+
+>>> from toldboxes.desk import Desk
+>>> from toldboxes.journals import journal, read_journal
+>>> desk = Desk('calls a b\\nanswers x y\\nmost 2\\ndeeds\\ntell b y a x')
+>>> [desk.say(line) for line in ('tell a x a y a x', 'sure b b a', 'sure a b', 'known', 'tell a x b y a y', 'known', 'drop 1', 'undo', 'tests')]
+['done', 'y y x', 'open', 'no', 'done', 'yes', 'done', 'done', '3']
+>>> [journal(desk.bench).split('\\n')[4:], read_journal(journal(desk.bench)) == desk.bench]
+[['tell b y a x', 'tell a x a y a x', 'tell a x b y a y'], True]
 """
 
 import doctest

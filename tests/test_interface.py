@@ -32,6 +32,11 @@ FUNCTIONS = {
                 'shows_always_kept': 'tests watch m value'},
     'before': {'fits_before': 'part known wanted', 'shows_fits_before': 'part known wanted value',
                'widest_before': 'known wanted', 'shows_widest_before': 'known wanted value'},
+    'behind': {'fits_behind': 'part known wanted', 'shows_fits_behind': 'part known wanted value',
+               'widest_behind': 'known wanted', 'shows_widest_behind': 'known wanted value', 'led': 'known tests',
+               'same_behind': 'known part other', 'shows_same_behind': 'known part other value',
+               'proves_behind': 'known part tests m', 'shows_proves_behind': 'known part tests m value'},
+    'journals': {'journal': 'bench', 'read_journal': 'text'},
 }
 METHODS = {
     ('devices', 'Device'): {
@@ -43,6 +48,11 @@ METHODS = {
     ('tellings', 'Tellings'): {'__init__': 'text', '__len__': '', '__eq__': 'other'},
     ('watches', 'Watch'): {
         '__init__': 'text', 'behind': 'log', '__len__': '', '__contains__': 'value', '__eq__': 'other'},
+    ('benches', 'Bench'): {
+        '__init__': 'text', 'tell': 'row', 'drop': 'number', 'limit': 'm', 'sure': 'walk', 'known': '', 'next': 'menu',
+        'undo': '', 'redo': '', 'trial': '', 'keep': '', 'tried': 'look keep', 'copy': '', '__len__': '',
+        '__contains__': 'value', '__eq__': 'other'},
+    ('desk', 'Desk'): {'__init__': 'text', 'say': 'line'},
 }
 HEADS = 'calls a\nanswers x y'
 ATTRIBUTES = {
@@ -50,6 +60,8 @@ ATTRIBUTES = {
     ('records', 'Tests'): (HEADS, 'text calls answers rows walks nodes'),
     ('tellings', 'Tellings'): (HEADS, 'text calls answers rows'),
     ('watches', 'Watch'): (HEADS + '\nmarks i', 'text calls answers marks'),
+    ('benches', 'Bench'): (HEADS + '\nmost 2', 'calls answers tests most done'),
+    ('desk', 'Desk'): (HEADS + '\nmost 2\ndeeds', 'bench'),
 }
 
 

@@ -5,8 +5,8 @@ import random
 import unittest
 
 from looks import (
-    Plain, Said, agreeing, any_cases, any_tests, first_parting, is_node, right_cases, right_device, rows_agreeing, same,
-    walks_to,
+    Plain, Said, agreeing, any_cases, any_tests, first_parting, heard_by_all, is_node, right_cases, right_device,
+    rows_agreeing, same, walks_to,
 )
 from raising import Raising
 from toldboxes.devices import Device
@@ -55,20 +55,6 @@ def right_judged(said, m, walk, heard, value):
     if not same(value[0], 'always') or len(heard) != 1 or not same(value[1], list(heard)[0]):
         return False
     return right_cases(said, m, value[2], lambda place, end: right_heard_end(said, walk, value[1], place, end))
-
-
-def heard_by_all(said, m, walk):
-    """The set of the answers of all devices of at most m states that agree; two at least where some row is free."""
-    heard = set()
-    for rows in rows_agreeing(said, m):
-        state, answers = 0, []
-        for call in walk:
-            if (state, call) not in rows:
-                return {None, 0}
-            answer, state = rows[state, call]
-            answers.append(answer)
-        heard.add(tuple(answers))
-    return heard
 
 
 def ended(rnd, paper):

@@ -10,7 +10,7 @@ from toldboxes.errors import BadDevices, BadLog, BadWalk, NotLeast
 from toldboxes.homing import homing
 from toldboxes.logs import expected, first, knowing, left, now, shows_expected, torn
 from values import (
-    FAR, FEW, LAMP, RING, STEADY, THREE, any_values, bad_devices, bad_logs, least_devices, random_text, random_walks,
+    FAR, LAMP, RING, STEADY, THREE, any_values, bad_devices, bad_logs, least_devices, random_text, random_walks,
     renamed, some_variants,
 )
 

@@ -10,7 +10,7 @@ from toldboxes.devices import Device
 from toldboxes.errors import BadDevices, NotLeast, OtherCalls
 from toldboxes.telling import shows_telling, shows_which, shows_within, telling, which, within
 from values import (
-    FAR, FEW, LAMP, RING, STEADY, THREE, TURNING, any_values, bad_devices, least_devices, random_text, random_walks,
+    FAR, LAMP, RING, STEADY, THREE, TURNING, any_values, bad_devices, least_devices, random_text, random_walks,
     renamed, some_variants,
 )
 

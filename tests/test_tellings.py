@@ -13,7 +13,7 @@ from toldboxes.records import Tests, asked
 from toldboxes.suites import suite
 from toldboxes.tellings import Tellings, nearest, shows_stands, stands, voted, wrongs
 from values import (
-    ENOUGH, FAR, FEW, LAMP, OTHER_HEADS, RING, STEADY, THREE, any_values, bad_devices, random_text, random_walks, renamed,
+    ENOUGH, FEW, LAMP, OTHER_HEADS, RING, STEADY, THREE, any_values, bad_devices, random_text, random_walks, renamed,
     some_variants, variants,
 )
 
