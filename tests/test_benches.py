@@ -19,7 +19,7 @@ from toldboxes.journals import journal, read_journal
 from toldboxes.records import Tests, asked
 from toldboxes.suites import suite
 from values import (
-    FEW, LAMP, ONE_MORE, SIX_HUNDRED, STEADY, any_values, bad_menus, random_text, random_walks, variants,
+    FEW, LAMP, ONE_MORE, SIX_HUNDRED, STEADY, any_values, bad_menus, random_text, random_walks, renamed, variants,
 )
 
 HEADS = 'calls a b\nanswers x y'
@@ -857,6 +857,37 @@ class TestGuarantees(unittest.TestCase):
             other.tell(tuple(zip(walk, device.heard(walk))))
         self.assertEqual(other, bench)
         self.assertEqual(Plain(told[1]).heard(('a', 'b', 'a')), ('x', 'y', 'y'))
+
+    NAMES = {'calls': {'a': 'z', 'b': 'open', 'c': 'tell'}, 'answers': {'x': 'most', 'y': 'a', 'z': 'x'}}
+
+    def test_other_names_and_calls_in_another_sequence(self):
+        calls, answers = self.NAMES['calls'], self.NAMES['answers']
+        names = dict(self.NAMES, states={f's{number}': f's{number}' for number in range(4)})
+        counted = {}
+        for rnd, bench in TestSure().some(9, 80):
+            other = Bench(renamed(journal(bench).split('\ndeeds')[0].rsplit('\n', 1)[0], names) + f'\nmost {bench.most}')
+            turned = Bench('\n'.join(['calls ' + ' '.join(bench.calls[::-1]), *journal(bench).split('\n')[1:3]]))
+            for row in bench.tests.rows:
+                other.tell(tuple((calls[call], answers[answer]) for call, answer in row))
+                turned.tell(row)
+            for walk in random_walks(rnd, bench.calls, 3, 4):
+                told = self.told(bench.sure, walk)
+                expected = tuple(answers[answer] for answer in told) if type(told) is tuple else told
+                self.assertTrue(same(self.told(other.sure, tuple(calls[call] for call in walk)), expected))
+                self.assertTrue(same(self.told(turned.sure, walk), told))
+            told = self.told(bench.known)
+            counted[told[0]] = counted.get(told[0], 0) + 1
+            self.assertEqual((self.told(other.known)[0], self.told(turned.known)[0]), (told[0], told[0]))
+            if told[0] == 'device':
+                self.assertEqual(other.known()[1], renamed(told[1], names))
+        self.assertGreater(min(counted.get(word, 0) for word in ('device', 'open')), 10, counted)
+
+    def told(self, call, *given):
+        """What is told, or that it is too long."""
+        try:
+            return call(*given)
+        except Long as long:
+            return 'long', long.value
 
     def test_fewer_and_more(self):
         """What is sure is so by fewer states, too, and by further tests."""
