@@ -16,7 +16,8 @@ class Trial:
 
     def __init__(self, bench):
         self.bench = bench
-        self.kept = False
+        # None until the block is kept: all that __exit__ may ask of an attribute is whether it is None.
+        self.kept = None
         self.ahead = None
         self.outer = None
 
@@ -28,7 +29,7 @@ class Trial:
         return bench
 
     def __exit__(self, kind, value, trace):
-        if kind is not None or not self.kept:
+        if kind is not None or self.kept is None:
             self.bench.tests = self.ahead.tests
             self.bench.most = self.ahead.most
             self.bench.done = self.ahead.done
